@@ -1,0 +1,1 @@
+"""Equalkin: algebras that obey the same equations."""
