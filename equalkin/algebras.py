@@ -109,6 +109,21 @@ def made_algebra(members, operations):
     return algebra
 
 
+def check_known(algebra, names):
+    """Raise UnknownMember for the first of the names that is no member."""
+    for name in names:
+        if name not in algebra:
+            raise UnknownMember(name)
+
+
+def tuples_of(things, count):
+    """Return the list of all tuples of so many of the things, in order: the first entries decide first."""
+    rows = [()]
+    for _ in range(count):
+        rows = [(*row, thing) for row in rows for thing in things]
+    return rows
+
+
 def _check_members(members):
     if not 1 <= len(members) <= _MOST_MEMBERS:
         raise BadAlgebra()

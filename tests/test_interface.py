@@ -24,6 +24,19 @@ FUNCTIONS = {
         "check_term": ["algebra", "term"], "unknowns": ["term"], "size": ["term"], "depth": ["term"],
         "replaced": ["term", "images"], "term_value": ["algebra", "term", "values"],
     },
+    "texts.py": {"write_term": ["term"], "read_term": ["text"]},
+    "parts.py": {
+        "closed": ["algebra", "members"], "part": ["algebra", "members"], "term_to": ["algebra", "members", "goal"],
+        "all_parts": ["algebra"], "generators": ["algebra"],
+    },
+    "maps.py": {
+        "product": ["first", "second"], "all_maps": ["source", "target"], "renaming": ["first", "second"],
+    },
+    "linkings.py": {
+        "check_linking": ["algebra", "blocks"], "linked": ["algebra", "pairs"],
+        "chain": ["algebra", "pairs", "first", "second"],
+        "judge_chain": ["algebra", "pairs", "first", "second", "steps"],
+    },
 }
 
 CLASSES = {
@@ -36,6 +49,12 @@ CLASSES = {
         "ChainAlgebra": {"__init__": ["count"]},
         "PickAlgebra": {"__init__": ["count"]},
         "SetAlgebra": {"__init__": ["count"]},
+    },
+    "maps.py": {
+        "Map": {
+            "__init__": ["source", "target", "images"], "__call__": None, "images": [], "__rshift__": None,
+            "__eq__": None, "same": None,
+        },
     },
 }
 
