@@ -1,6 +1,6 @@
 """Algebras: finitely many members and finitely many operations on them."""
 
-from equalkin.errors import BadAlgebra, BadCount, UnknownMember, UnknownSign
+from equalkin.errors import BadAlgebra, BadCount, MixedSigns, UnknownMember, UnknownSign
 from equalkin.words import is_plain, is_word
 
 _MOST_MEMBERS = 6
@@ -116,12 +116,36 @@ def check_known(algebra, names):
             raise UnknownMember(name)
 
 
+def check_signs(first, second):
+    """Raise MixedSigns if the two algebras have not the same signature."""
+    if first.signature != second.signature:
+        raise MixedSigns()
+
+
 def tuples_of(things, count):
     """Return the list of all tuples of so many of the things, in order: the first entries decide first."""
     rows = [()]
     for _ in range(count):
         rows = [(*row, thing) for row in rows for thing in things]
     return rows
+
+
+def many_tuples(many, count):
+    """Return the number of tuples of count things where there are so many things, without making the tuples."""
+    found = 1
+    for _ in range(count):
+        found = found * many
+    return found
+
+
+def value_row(algebra, sign, rows, width):
+    """Return the list of the values, place by place, for rows of width members, one row for each argument."""
+    places = algebra._places
+    spots = [0] * width
+    for row in rows:
+        spots = [spot * len(places) + places[name] for spot, name in zip(spots, row)]
+    table = algebra._tables[sign]
+    return [table[spot] for spot in spots]
 
 
 def _check_members(members):

@@ -11,7 +11,7 @@ def check_linking(algebra, blocks):
     if not all([len(block) > 0 for block in blocks]) or sorted(names) != sorted(algebra.members()):
         raise BadBlocks()
     labels = {name: number for number, block in enumerate(blocks) for name in block}
-    block_of = {name: block for block in _one_form(algebra, labels) for name in block}
+    block_of = {name: block for block in one_form(algebra, labels) for name in block}
     for sign, arity in algebra.signature:
         rows = tuples_of(algebra.members(), arity)
         _check_operation(sign, {row: labels[algebra.value(sign, row)] for row in rows}, block_of)
@@ -32,7 +32,7 @@ def _placed(name, place, others):
     return (*others[:place], name, *others[place:])
 
 
-def _one_form(algebra, labels):
+def one_form(algebra, labels):
     """Return the blocks of the members with equal labels, in their one form."""
     blocks = {}
     for name in algebra.members():
@@ -44,7 +44,7 @@ def linked(algebra, pairs):
     """Return the least linking, in its one form, with the members of each pair in one block."""
     _check_pairs(algebra, pairs)
     labels, _ = _join_all(algebra, pairs)
-    return _one_form(algebra, labels)
+    return one_form(algebra, labels)
 
 
 def _check_pairs(algebra, pairs):

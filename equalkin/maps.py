@@ -1,14 +1,14 @@
 """Products of algebras, and maps: they lead members to members and keep the operations."""
 
-from equalkin.algebras import Algebra, check_known, made_algebra, tuples_of
-from equalkin.errors import BadImages, MixedAlgebras, MixedSigns, NotKept, TooMany, UnknownMember
+from equalkin.algebras import Algebra, check_known, check_signs, made_algebra, tuples_of
+from equalkin.errors import BadImages, MixedAlgebras, NotKept, TooMany, UnknownMember
 
 _MOST_MEMBERS = 64
 
 
 def product(first, second):
     """Return the algebra of the pairs of a member of the first and one of the second, with the values side by side."""
-    _check_signs(first, second)
+    check_signs(first, second)
     if len(first) * len(second) > _MOST_MEMBERS:
         raise TooMany()
     pairs = [(one, two) for one in first.members() for two in second.members()]
@@ -33,7 +33,7 @@ class Map:
     """A map that leads each member of the source to a member of the target and keeps the operations."""
 
     def __init__(self, source, target, images):
-        _check_signs(source, target)
+        check_signs(source, target)
         if len(images) != len(source):
             raise BadImages()
         check_known(target, images)
@@ -70,11 +70,6 @@ class Map:
         return cls(algebra, algebra, algebra.members())
 
 
-def _check_signs(first, second):
-    if first.signature != second.signature:
-        raise MixedSigns()
-
-
 def _check_kept(source, target, image_of):
     for sign, arity in source.signature:
         for arguments in tuples_of(source.members(), arity):
@@ -85,7 +80,7 @@ def _check_kept(source, target, image_of):
 
 def all_maps(source, target):
     """Return the list of all maps, ordered by the places of their images."""
-    _check_signs(source, target)
+    check_signs(source, target)
     rows = [[]]
     for rules in _rules(source):
         longer = [[*row, image] for row in rows for image in target.members()]
@@ -95,7 +90,7 @@ def all_maps(source, target):
 
 def renaming(first, second):
     """Return a map that leads just one member to each member, and None if there is none."""
-    _check_signs(first, second)
+    check_signs(first, second)
     if len(first) != len(second):
         return None
     row = _unlike_images(second, _rules(first), [])

@@ -58,16 +58,39 @@ def term_to(algebra, members, goal):
     """Return a term of least depth with the value goal, its unknowns standing for the entries of members."""
     check_known(algebra, members)
     check_known(algebra, [goal])
-    best = {}
-    for number, name in enumerate(members):
-        if name not in best:
-            best[name] = (1, f"x{number}")
+    best = _unknown_terms(members)
     while goal not in best:
         deeper = _one_deeper(algebra, best)
         if len(deeper) == len(best):
             return None
         best = deeper
     return best[goal][1]
+
+
+def terms_to(algebra, members):
+    """Return, by all members of the least part that has these ones, the terms that term_to tells.
+
+    They are put as tuples (depth, number of parts, term).
+    """
+    told = {}
+    best = _unknown_terms(members)
+    level = 0
+    settled = False
+    while not settled:
+        for name in best:
+            told.setdefault(name, (level, *best[name]))
+        best = _one_deeper(algebra, best)
+        level += 1
+        settled = len(best) == len(told)
+    return told
+
+
+def _unknown_terms(members):
+    best = {}
+    for number, name in enumerate(members):
+        if name not in best:
+            best[name] = (1, f"x{number}")
+    return best
 
 
 def _one_deeper(algebra, best):

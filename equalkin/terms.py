@@ -1,14 +1,19 @@
 """Terms over a signature: an unknown is a word, any other term a tuple (sign, term, .., term)."""
 
+from equalkin.algebras import value_row
 from equalkin.errors import BadTerm, NoValue, UnknownMember
 from equalkin.words import is_word
 
 
 def check_term(algebra, term):
     """Raise BadTerm if this is no term over the algebra's signature."""
-    arities = {sign: arity for sign, arity in algebra.signature}
-    if not _is_term(arities, term):
+    if not is_term(algebra.signature, term):
         raise BadTerm()
+
+
+def is_term(signature, thing):
+    """Tell whether thing is a term over the signature, the arities of which may be any numbers."""
+    return _is_term({sign: arity for sign, arity in signature}, thing)
 
 
 def _is_term(arities, thing):
@@ -77,3 +82,11 @@ def _worked_out(algebra, term, values):
     if isinstance(term, str):
         return values[term]
     return algebra.value(term[0], [_worked_out(algebra, part, values) for part in term[1:]])
+
+
+def term_row(algebra, term, columns, width):
+    """Return the list of the term's values where columns leads its unknowns to lists of width members."""
+    if isinstance(term, str):
+        return list(columns[term])
+    rows = [term_row(algebra, part, columns, width) for part in term[1:]]
+    return value_row(algebra, term[0], rows, width)

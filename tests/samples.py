@@ -1,4 +1,6 @@
-"""Algebras that several test files share."""
+"""Algebras, ways to work things out and a kind of test that several test files share."""
+
+import unittest
 
 from equalkin.algebras import ChainAlgebra, PickAlgebra, SetAlgebra, TurnAlgebra, made_algebra
 
@@ -61,3 +63,55 @@ def data_of(algebra):
     return names, algebra.signature, {
         sign: [algebra.value(sign, row) for row in tuples(names, arity)] for sign, arity in algebra.signature
     }
+
+
+def value_of(algebra, term, values):
+    """Return the value of a term, worked out without the functions of the program."""
+    if isinstance(term, str):
+        return values[term]
+    return algebra.value(term[0], [value_of(algebra, inner, values) for inner in term[1:]])
+
+
+def depth_of(term):
+    return 0 if isinstance(term, str) else 1 + max([depth_of(inner) for inner in term[1:]], default=0)
+
+
+def many_parts(term, known=None):
+    """Return the number of a term's parts; known keeps those of terms that stand in it more than once."""
+    known = {} if known is None else known
+    if isinstance(term, str):
+        return 1
+    if id(term) not in known:
+        known[id(term)] = 1 + sum(many_parts(inner, known) for inner in term[1:])
+    return known[id(term)]
+
+
+def depths_of_rows(algebra, rows, width):
+    """Return the least depth of a term for each row that some term makes of these ones, place by place."""
+    depths = {row: 0 for row in rows}
+    level = 0
+    while True:
+        level += 1
+        made = {
+            tuple(algebra.value(sign, [row[place] for row in given]) for place in range(width))
+            for sign, arity in algebra.signature for given in tuples(list(depths), arity)
+        }
+        if made <= set(depths):
+            return depths
+        depths.update({row: level for row in made if row not in depths})
+
+
+def projections(algebra, count):
+    """Return the rows of so many unknowns for all lists of members, and the number of the lists."""
+    lists = tuples(algebra.members(), count)
+    return [tuple(row[place] for row in lists) for place in range(count)], len(lists)
+
+
+class Failing(unittest.TestCase):
+    def raises(self, error, told, call, *given):
+        with self.assertRaises(error) as caught:
+            call(*given)
+        self.assertIs(type(caught.exception), error)
+        for name, value in told.items():
+            self.assertEqual(getattr(caught.exception, name), value)
+        return caught.exception
