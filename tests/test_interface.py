@@ -4,6 +4,13 @@ import ast
 import os
 import unittest
 
+from equalkin.algebras import TurnAlgebra
+from equalkin.bench import Bench
+from equalkin.free import Free
+from equalkin.kin import kin_paper
+from equalkin.maps import Map, all_maps, renaming
+from equalkin.quotients import quotient, to_quotient
+
 PACKAGE = os.path.join(os.path.dirname(os.path.dirname(os.path.abspath(__file__))), "equalkin")
 
 PLAIN_ERRORS = (
@@ -37,6 +44,20 @@ FUNCTIONS = {
         "chain": ["algebra", "pairs", "first", "second"],
         "judge_chain": ["algebra", "pairs", "first", "second", "steps"],
     },
+    "quotients.py": {
+        "all_linkings": ["algebra"], "met": ["algebra", "first", "second"], "joined": ["algebra", "first", "second"],
+        "quotient": ["algebra", "blocks"], "to_quotient": ["algebra", "blocks"], "kernel": ["m"], "heart": ["algebra"],
+    },
+    "equations.py": {"fails": ["algebra", "left", "right"]},
+    "kin.py": {
+        "kin": ["first", "second"], "kin_paper": ["first", "second"], "same_equations": ["first", "second"],
+    },
+    "judging.py": {"judge_kin": ["first", "second", "paper"]},
+    "speech.py": {
+        "made_by": ["algebra", "arity", "values"], "bar": ["algebra", "arity", "values"],
+        "judge_bar": ["algebra", "arity", "values", "rows"], "speaks": ["first", "second"],
+        "wanted": ["algebra", "arity", "equations"],
+    },
 }
 
 CLASSES = {
@@ -54,6 +75,19 @@ CLASSES = {
         "Map": {
             "__init__": ["source", "target", "images"], "__call__": None, "images": [], "__rshift__": None,
             "__eq__": None, "same": None,
+        },
+    },
+    "free.py": {
+        "Free": {
+            "__init__": ["algebra", "count"], "unknowns": [], "row": ["name"], "term": ["name"], "member": ["term"],
+            "lift": ["target", "images"],
+        },
+    },
+    "bench.py": {
+        "Bench": {
+            "__init__": ["algebra", "names"], "names": [], "told": [], "tell": ["label", "left", "right"],
+            "drop": ["label"], "undo": [], "__contains__": None, "__len__": [], "ways": [], "can_be": ["name"],
+            "follows": ["left", "right"], "why": ["name", "member"], "attempt": ["action"],
         },
     },
 }
@@ -95,6 +129,20 @@ class Interface(unittest.TestCase):
                     self.assertIn(method, found[name], name)
                     if told is not None:
                         self.assertEqual(found[name][method], ["self", *told], (name, method))
+
+    def test_attributes_are_set_when_an_object_is_created(self):
+        two = TurnAlgebra(2)
+        free = Free(two, 1)
+        for m in (
+            Map.same(two), Map(two, two, ["0", "0"]), Map.same(two) >> Map.same(two), all_maps(two, two)[0], renaming(two, two),
+            to_quotient(two, [["0", "1"]]), free.lift(two, ["1"]),
+        ):
+            self.assertLessEqual({"source", "target"}, set(vars(m)))
+        self.assertLessEqual({"base", "count", "algebra"}, set(vars(free)))
+        self.assertIn("algebra", vars(Bench(two, [])))
+        for algebra in (two, free.algebra, quotient(two, [["0", "1"]])):
+            self.assertIn("signature", vars(algebra))
+        self.assertEqual(kin_paper(two, two)[0], "kin")
 
 
 if __name__ == "__main__":
